@@ -1,7 +1,11 @@
 // Package query reads tokens as a query or a policy.
 package query
 
-import "tribune/value"
+import (
+	"slices"
+
+	"tribune/value"
+)
 
 // Kind is what a node is.
 type Kind int
@@ -39,6 +43,14 @@ type Node struct {
 	Value  value.Value // of Constant
 	Parts  []*Node     // the exprs or conds in it, from left to right
 	Query  *Query      // of Exists
+	Place  Place       // of Column: where it is found, told by what checks the names
+}
+
+// Place is where a column is found.
+type Place struct {
+	Source int        // counted among the sources of its query and of those around, the outermost first
+	Column int        // counted among the columns of the source
+	Kind   value.Kind // of its values that are not null
 }
 
 // Source is a table, and what it is called in the query.
@@ -72,17 +84,41 @@ type Statement struct {
 	Query *Query
 }
 
+// Nodes are the exprs and conds that stand in a query itself, not within others.
+func (q *Query) Nodes() []*Node {
+	nodes := slices.Concat(q.Exprs, q.Group)
+	if q.Where != nil {
+		nodes = append(nodes, q.Where)
+	}
+	if q.Having != nil {
+		nodes = append(nodes, q.Having)
+	}
+	return nodes
+}
+
+// IsGrouped tells whether the rows of a query are of groups.
+func (q *Query) IsGrouped() bool {
+	hasAggregate := func(n *Node) bool { return n.Has((*Node).IsAggregate) }
+	return len(q.Group) > 0 || q.Having != nil || slices.ContainsFunc(q.Exprs, hasAggregate)
+}
+
+// IsAggregate tells whether a node is of a group's combinations.
+func (n *Node) IsAggregate() bool { return CountAll <= n.Kind && n.Kind <= Max }
+
+// Has tells whether something holds for a node or for one within it. A query in exists is a matter of its own.
+func (n *Node) Has(holds func(*Node) bool) bool {
+	isWithin := func(part *Node) bool { return part.Has(holds) }
+	return n != nil && (holds(n) || slices.ContainsFunc(n.Parts, isWithin))
+}
+
 // Depth is the greatest depth of anything in a query.
 func (q *Query) Depth() int {
-	// The columns of a group by are no exprs; and they would be no deeper than the exprs are.
-	return 1 + max(deepest(q.Exprs), q.Where.depth(), q.Having.depth())
+	// The columns of a group by are no exprs, but no deeper than the exprs are.
+	return 1 + deepest(q.Nodes())
 }
 
 func (n *Node) depth() int {
-	switch {
-	case n == nil:
-		return 0
-	case n.Query != nil:
+	if n.Query != nil {
 		return 1 + n.Query.Depth()
 	}
 	return 1 + deepest(n.Parts)

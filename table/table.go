@@ -35,6 +35,16 @@ func New(name string, columns []Column) *Table {
 	return &Table{Name: strings.Clone(name), Columns: columns}
 }
 
+// Find is the table that is called so, or nil.
+func Find(tables []*Table, name string) *Table {
+	for _, t := range tables {
+		if t.Name == name {
+			return t
+		}
+	}
+	return nil
+}
+
 // ReadColumns reads columns as Create has them; false, if they are not written so.
 func ReadColumns(text string) ([]Column, bool) {
 	// One piece more than may be tells of too many, however long the text is.
@@ -91,10 +101,18 @@ func (t *Table) Insert(texts []string) (int, api.Errno) {
 	if len(t.Rows) >= api.MaxRows {
 		return 0, api.ErrFull
 	}
-	t.last++
-	t.Rows = append(t.Rows, Row{Number: t.last, Values: values})
+	t.Lay(values)
 	return t.last, api.OK
 }
+
+// Lay lays a row of values that are right into the table, and takes them over.
+func (t *Table) Lay(values []value.Value) {
+	t.last++
+	t.Rows = append(t.Rows, Row{Number: t.last, Values: values})
+}
+
+// Last is the number given last, or 0.
+func (t *Table) Last() int { return t.last }
 
 func (t *Table) readValues(texts []string) ([]value.Value, bool) {
 	if len(texts) != len(t.Columns) {

@@ -31,6 +31,9 @@ func TestAnyBytes(t *testing.T) {
 		if n, e := x.Insert([]string{"t", text()}[r.Intn(2)], []string{text(), text()}[:r.Intn(3)]); e != api.OK && n != 0 {
 			t.Errorf("P1: Insert: %d beside %d", n, e)
 		}
+		if a, e := x.Ask([]string{"bob", text()}[r.Intn(2)], text()); e != api.OK && (a.Rows != nil || a.Denied != 0) {
+			t.Errorf("P1: Ask: %v beside %d", a, e)
+		}
 		x.Delete("t", r.Intn(100)-50)
 		x.Tick(r.Int() - r.Int())
 	}
@@ -48,6 +51,12 @@ func TestEnginesStandAlone(t *testing.T) {
 	deleted(t, y, "t", 2, api.ErrNone)
 	if x.Tick(9) != 9 || y.Tick(5) != 5 || x.Tick(0) != 9 {
 		t.Error("P2: the clocks hang together")
+	}
+	asked(t, x, "select a.x, now from t a", "1 9 < t1; 1 9 < t2")
+	asked(t, y, "select a.x, now from t a", "'a' 5 < t1")
+	asked(t, y, "select a.x, now from t a", "'a' 5 < t1")
+	if x.Entries() != 1 || y.Entries() != 2 {
+		t.Error("P2: the logs hang together")
 	}
 }
 
@@ -80,5 +89,65 @@ func TestTextsAreNotKept(t *testing.T) {
 	query[7] = '2'
 	if printed != "select 1 from t a" || e != api.OK {
 		t.Errorf("P2: what was printed is %q now, %d", printed, e)
+	}
+}
+
+// P2: nor is anything of a query: neither the answer nor the engine shares its memory.
+func TestQueriesAreNotKept(t *testing.T) {
+	x := few(t)
+	text := []byte("select 'w', a.x from t a group by a.x")
+	user := []byte("bob")
+	a, e := x.Ask(unsafe.String(&user[0], len(user)), unsafe.String(&text[0], len(text)))
+	clear(text)
+	clear(user)
+	if got := told(a); got != "'w' 1 < t1; 'w' 2 < t2" || e != api.OK {
+		t.Errorf("P2: what was told is %q now, %d", got, e)
+	}
+	asked(t, x, "select a.x from t a", "1 < t1; 2 < t2")
+}
+
+// fill writes a list full, with its spare room.
+func fill[T any](list []T, with T) {
+	list = list[:cap(list)]
+	for i := range list {
+		list[i] = with
+	}
+}
+
+// P2: an answer belongs to whom it is given, list by list.
+func TestAnswersAreNewMemory(t *testing.T) {
+	texts := []string{
+		"select a.x, a.y, 'w', null, now from t a", "select a.y from t a, t b", "select count(*), min(a.y) from t a", "select a.x from t a group by a.x",
+		"select a.x from t a where exists (select b.x from t b)", "select 1 from t a where 1 = 2", "select max(a.x) from t a where 1 = 2",
+	}
+	x := few(t)
+	var before []string
+	for _, text := range texts {
+		a, _ := x.Ask("bob", text)
+		before = append(before, told(a))
+	}
+	for i, text := range texts {
+		a, _ := x.Ask("bob", text)
+		for n := range a.Rows {
+			others := append(slices.Clone(a.Rows[:n]), a.Rows[n+1:]...)
+			same := told(api.Answer{Rows: others})
+			fill(a.Rows[n].Values, "spoiled")
+			if got := told(api.Answer{Rows: others}); got != same {
+				t.Errorf("P2: %q: the values of row %d share memory: %q, then %q", text, n, same, got)
+			}
+			fill(a.Rows[n].From, api.Touch{Table: "spoiled", Row: 9})
+			if got := told(api.Answer{Rows: others}); got != same {
+				t.Errorf("P2: %q: the from of row %d shares memory: %q, then %q", text, n, same, got)
+			}
+		}
+		fill(a.Rows, api.Row{})
+		for j, again := range texts {
+			if b, e := x.Ask("bob", again); told(b) != before[j] || e != api.OK {
+				t.Errorf("P2: Ask(%q) behind a spoiled answer to %q: %q, want %q", again, texts[i], told(b), before[j])
+			}
+		}
+		if x.Entries() > 40 {
+			x = few(t)
+		}
 	}
 }

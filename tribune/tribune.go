@@ -3,27 +3,26 @@ package tribune
 
 import (
 	"tribune/api"
+	"tribune/check"
+	"tribune/journal"
 	"tribune/query"
+	"tribune/run"
 	"tribune/table"
 	"tribune/token"
+	"tribune/touch"
+	"tribune/value"
 )
 
 // Engine is tables, policies and a log.
 type Engine struct {
 	tables []*table.Table
+	log    *journal.Journal
 	clock  int64
 }
 
 // Print writes a query or a policy as it is written (P3).
 func Print(text string) (string, api.Errno) {
-	if len(text) > api.MaxText {
-		return "", api.ErrText
-	}
-	tokens, ok := token.Scan(text)
-	if !ok {
-		return "", api.ErrText
-	}
-	statement, ok := query.Read(tokens)
+	tokens, statement, ok := read(text)
 	if !ok {
 		return "", api.ErrText
 	}
@@ -33,8 +32,21 @@ func Print(text string) (string, api.Errno) {
 	return token.Write(tokens), api.OK
 }
 
+// read reads a query or a policy, however deep; false, if it is none.
+func read(text string) ([]token.Token, query.Statement, bool) {
+	if len(text) > api.MaxText {
+		return nil, query.Statement{}, false
+	}
+	tokens, ok := token.Scan(text)
+	if !ok {
+		return nil, query.Statement{}, false
+	}
+	statement, ok := query.Read(tokens)
+	return tokens, statement, ok
+}
+
 // New makes an engine (P7).
-func New() *Engine { return &Engine{} }
+func New() *Engine { return &Engine{log: journal.New()} }
 
 // Create makes a table (P7).
 func (x *Engine) Create(name string, columns string) api.Errno {
@@ -42,7 +54,7 @@ func (x *Engine) Create(name string, columns string) api.Errno {
 	if !ok || !token.IsName(name) {
 		return api.ErrText
 	}
-	if x.find(name) != nil || isLogs(name) || table.HasTwins(read) {
+	if table.Find(x.tables, name) != nil || journal.HasTable(name) || table.HasTwins(read) {
 		return api.ErrName
 	}
 	if len(x.tables) >= api.MaxTables {
@@ -52,22 +64,9 @@ func (x *Engine) Create(name string, columns string) api.Errno {
 	return api.OK
 }
 
-// isLogs tells whether a table of the log is called so.
-func isLogs(name string) bool { return name == "log" || name == "touch" }
-
-// find is the table that is called so, or nil.
-func (x *Engine) find(name string) *table.Table {
-	for _, t := range x.tables {
-		if t.Name == name {
-			return t
-		}
-	}
-	return nil
-}
-
 // Insert lays a row into a table (P7).
 func (x *Engine) Insert(name string, values []string) (int, api.Errno) {
-	t := x.find(name)
+	t := table.Find(x.tables, name)
 	if t == nil {
 		return 0, api.ErrNone
 	}
@@ -76,7 +75,7 @@ func (x *Engine) Insert(name string, values []string) (int, api.Errno) {
 
 // Delete takes a row out of a table (P7).
 func (x *Engine) Delete(name string, row int) api.Errno {
-	t := x.find(name)
+	t := table.Find(x.tables, name)
 	if t == nil {
 		return api.ErrNone
 	}
@@ -84,7 +83,45 @@ func (x *Engine) Delete(name string, row int) api.Errno {
 }
 
 // Ask answers a query, if the policies let it (P8).
-func (x *Engine) Ask(user string, text string) (api.Answer, api.Errno) { return api.Answer{}, api.OK }
+func (x *Engine) Ask(user string, text string) (api.Answer, api.Errno) {
+	if user == "" || !value.IsWord(user) {
+		return api.Answer{}, api.ErrUser
+	}
+	q, errno := x.readQuery(text)
+	if errno != api.OK {
+		return api.Answer{}, errno
+	}
+	rows, ok := run.Rows(q, x.tables, x.clock)
+	if !ok {
+		return api.Answer{}, api.ErrRun
+	}
+	if x.log.Count() >= api.MaxEntries {
+		return api.Answer{}, api.ErrFull
+	}
+	x.log.Write(user, x.clock, touched(rows))
+	return api.Answer{Rows: rows}, api.OK
+}
+
+// readQuery reads a query that is right, and no policy.
+func (x *Engine) readQuery(text string) (*query.Query, api.Errno) {
+	_, statement, ok := read(text)
+	if !ok || statement.Form != query.Plain {
+		return nil, api.ErrText
+	}
+	if statement.Query.Depth() > api.MaxDepth {
+		return nil, api.ErrDeep
+	}
+	return statement.Query, check.Query(statement.Query, x.tables)
+}
+
+// touched is what an answer is from.
+func touched(rows []api.Row) []api.Touch {
+	var froms [][]api.Touch
+	for _, r := range rows {
+		froms = append(froms, r.From)
+	}
+	return touch.Union(froms...)
+}
 
 // Tick sets the clock (P7).
 func (x *Engine) Tick(time int) int {
@@ -101,7 +138,7 @@ func (x *Engine) Add(policy string) (int, api.Errno) { return 0, api.OK }
 func (x *Engine) Drop(n int) api.Errno { return api.OK }
 
 // Entries tells how many entries there are (P10).
-func (x *Engine) Entries() int { return 0 }
+func (x *Engine) Entries() int { return x.log.Count() }
 
 // Compact throws away what no policy can see (P10).
 func (x *Engine) Compact() {}

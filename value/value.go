@@ -1,7 +1,9 @@
-// Package value has the values of tables and queries, and reads them as they are written.
+// Package value has the values of tables and queries: their order, and how they are written.
 package value
 
 import (
+	"cmp"
+	"strconv"
 	"strings"
 
 	"tribune/api"
@@ -21,6 +23,28 @@ type Value struct {
 	Kind   Kind
 	Number int64
 	Word   string
+}
+
+// OfNumber is a number.
+func OfNumber(number int64) Value { return Value{Kind: Number, Number: number} }
+
+// OfWord is a word.
+func OfWord(word string) Value { return Value{Kind: Word, Word: word} }
+
+// Compare holds two values against each other: null is ahead of numbers, these are ahead of words.
+func Compare(a, b Value) int {
+	return cmp.Or(cmp.Compare(a.Kind, b.Kind), cmp.Compare(a.Number, b.Number), strings.Compare(a.Word, b.Word))
+}
+
+// Text is the value as it is written.
+func (v Value) Text() string {
+	switch v.Kind {
+	case Number:
+		return strconv.FormatInt(v.Number, 10)
+	case Word:
+		return "'" + v.Word + "'"
+	}
+	return "null"
 }
 
 // Longer digits are out of bounds in any case, and need not be worked out.
@@ -43,7 +67,7 @@ func readWord(text string) (Value, bool) {
 		return Value{}, false
 	}
 	// A row outlives the text that it was read from.
-	return Value{Kind: Word, Word: strings.Clone(inner)}, true
+	return OfWord(strings.Clone(inner)), true
 }
 
 func readNumber(text string) (Value, bool) {
@@ -61,7 +85,7 @@ func readNumber(text string) (Value, bool) {
 	if below {
 		number = -number
 	}
-	return Value{Kind: Number, Number: number}, true
+	return OfNumber(number), true
 }
 
 // areDigits tells whether these are digits as a number has them: few enough, and no 0 ahead of others.

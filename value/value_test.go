@@ -49,3 +49,22 @@ func TestReadKeepsNothing(t *testing.T) {
 		t.Errorf("the word is %q now", got.Word)
 	}
 }
+
+func TestCompare(t *testing.T) {
+	order := []Value{{}, OfNumber(-1000000000000), OfNumber(-2), OfNumber(-1), {Kind: Number}, OfNumber(1), OfNumber(10), OfWord(""), OfWord("0"), OfWord("10"), OfWord("9"), OfWord("a"), OfWord("aa"), OfWord("b")}
+	for i, a := range order {
+		for j, b := range order {
+			if got := Compare(a, b); got < 0 != (i < j) || got > 0 != (i > j) {
+				t.Errorf("Compare(%v, %v) = %d", a, b, got)
+			}
+		}
+	}
+}
+
+func TestText(t *testing.T) {
+	for _, text := range []string{"null", "0", "7", "-7", "1000000000000", "-1000000000000", "''", "'a'", "'null'", "'01'"} {
+		if v, ok := Read(text); !ok || v.Text() != text {
+			t.Errorf("%s is written %s", text, v.Text())
+		}
+	}
+}

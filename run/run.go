@@ -26,6 +26,12 @@ func Rows(q *query.Query, tables []*table.Table, now int64) ([]api.Row, bool) {
 	return written(answer), true
 }
 
+// Finds tells whether a query has a row; or a number is out of its bounds, or the work too much.
+func Finds(q *query.Query, tables []*table.Table, now int64) bool {
+	w := worker{tables: tables, now: now}
+	return len(w.answer(q)) > 0 || w.failed
+}
+
 // row is a row of an answer, on its way to be told.
 type row struct {
 	values []value.Value
@@ -46,7 +52,7 @@ func (w *worker) from(sources []query.Source, combinations []combination) []api.
 	for i, s := range sources {
 		t := table.Find(w.tables, s.Table)
 		for _, c := range combinations {
-			// The table's own name: that of the source is a piece of the text that was handed in.
+			// The table's own name: that of the source is a piece of the query's text, which would be kept with it.
 			from = append(from, api.Touch{Table: t.Name, Row: c[i].Number})
 		}
 	}

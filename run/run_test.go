@@ -11,8 +11,8 @@ import (
 	"tribune/token"
 )
 
-// worked reads a query and works it out over the table t.
-func worked(t *testing.T, text string, now int64) ([]api.Row, bool) {
+// read reads a query over the table t.
+func read(t *testing.T, text string) (*query.Query, []*table.Table) {
 	t.Helper()
 	columns, _ := table.ReadColumns("x:i,y:t")
 	rows := table.New("t", columns)
@@ -27,7 +27,13 @@ func worked(t *testing.T, text string, now int64) ([]api.Row, bool) {
 	if !ok || check.Query(s.Query, tables) != api.OK {
 		t.Fatalf("%q is no query", text)
 	}
-	return Rows(s.Query, tables, now)
+	return s.Query, tables
+}
+
+func worked(t *testing.T, text string, now int64) ([]api.Row, bool) {
+	t.Helper()
+	q, tables := read(t, text)
+	return Rows(q, tables, now)
 }
 
 func TestRows(t *testing.T) {
@@ -54,6 +60,19 @@ func TestFailures(t *testing.T) {
 	} {
 		if got, ok := worked(t, text, api.MaxNumber); got != nil || ok {
 			t.Errorf("%q: %v, %t", text, got, ok)
+		}
+	}
+}
+
+func TestFinds(t *testing.T) {
+	for text, want := range map[string]bool{
+		"select 1 from t a": true, "select null from t a where a.x = 2": true, "select 1 from t a where a.x > 3": false, "select count(*) from t a where a.x > 3": true,
+		"select count(*) from t a where a.x > 3 group by a.x": false, "select 1 from t a having count(*) > 3": false, "select 1 from t a where now = 9": true,
+		"select (a.x * 1000000000000) from t a": true, "select 1 from t a where (1 = 2 and (a.x * 1000000000000) = 1)": true,
+	} {
+		q, tables := read(t, text)
+		if Finds(q, tables, 9) != want {
+			t.Errorf("%q: not %t", text, want)
 		}
 	}
 }

@@ -101,18 +101,10 @@ func (t *Table) Insert(texts []string) (int, api.Errno) {
 	if len(t.Rows) >= api.MaxRows {
 		return 0, api.ErrFull
 	}
-	t.Lay(values)
-	return t.last, api.OK
-}
-
-// Lay lays a row of values that are right into the table, and takes them over.
-func (t *Table) Lay(values []value.Value) {
 	t.last++
 	t.Rows = append(t.Rows, Row{Number: t.last, Values: values})
+	return t.last, api.OK
 }
-
-// Last is the number given last, or 0.
-func (t *Table) Last() int { return t.last }
 
 func (t *Table) readValues(texts []string) ([]value.Value, bool) {
 	if len(texts) != len(t.Columns) {

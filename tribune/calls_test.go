@@ -13,7 +13,7 @@ import (
 // P1: whatever is handed in, each call ends, and beside an error stands nothing.
 func TestAnyBytes(t *testing.T) {
 	r := rand.New(rand.NewSource(3))
-	pieces := []string{"select ", " from ", "where ", "(", ")", "'", "-", "0", "9", "t", "a", ".", ",", ":", "i", " ", "\x00", "\xff", "é", "not ", "exists", "count(", "null"}
+	pieces := []string{"select ", " from ", "where ", "(", ")", "'", "-", "0", "9", "t", "a", ".", ",", ":", "i", " ", "\x00", "\xff", "é", "not ", "exists", "count(", "null", "ever ", "within "}
 	text := func() string {
 		s := ""
 		for range r.Intn(30) {
@@ -34,7 +34,15 @@ func TestAnyBytes(t *testing.T) {
 		if a, e := x.Ask([]string{"bob", text()}[r.Intn(2)], text()); e != api.OK && (a.Rows != nil || a.Denied != 0) {
 			t.Errorf("P1: Ask: %v beside %d", a, e)
 		}
+		if n, e := x.Add(text()); e != api.OK && n != 0 {
+			t.Errorf("P1: Add: %d beside %d", n, e)
+		}
 		x.Delete("t", r.Intn(100)-50)
+		x.Drop(r.Int() - r.Int())
+		x.Compact()
+		if x.Kept() > x.Entries() || x.Kept() < 0 {
+			t.Errorf("P10: %d of %d entries are kept", x.Kept(), x.Entries())
+		}
 		x.Tick(r.Int() - r.Int())
 	}
 }
@@ -58,6 +66,19 @@ func TestEnginesStandAlone(t *testing.T) {
 	if x.Entries() != 1 || y.Entries() != 2 {
 		t.Error("P2: the logs hang together")
 	}
+	added(t, x, "ever select 1 from log q where q.id > 2", 1, api.OK)
+	added(t, y, "ever select 1 from log q where q.id > 3", 1, api.OK)
+	added(t, y, "ever select 1 from log q where q.id > 2", 2, api.OK)
+	granted(t, x, "bob", "select a.x from t a")
+	denied(t, x, "bob", "select a.x from t a", 1)
+	denied(t, y, "bob", "select a.x from t a", 2)
+	dropped(t, x, 2, api.ErrNone)
+	dropped(t, y, 2, api.OK)
+	y.Compact()
+	kept(t, x, 2, 2)
+	kept(t, y, 0, 2)
+	denied(t, x, "bob", "select a.x from t a", 1)
+	granted(t, y, "bob", "select a.x from t a")
 }
 
 // P2: a list that is handed in stays as it is, with what lies behind it.
@@ -104,6 +125,41 @@ func TestQueriesAreNotKept(t *testing.T) {
 		t.Errorf("P2: what was told is %q now, %d", got, e)
 	}
 	asked(t, x, "select a.x from t a", "1 < t1; 2 < t2")
+}
+
+// P2: nor is anything of a policy's text, or of what a user is called.
+func TestPoliciesAreNotKept(t *testing.T) {
+	x := few(t)
+	text := []byte("ever select q.user from log q, touch z, t a where ((q.user = 'eve' and z.tab = 't') and exists (select r.id from log r where r.id = z.id))")
+	added(t, x, unsafe.String(&text[0], len(text)), 1, api.OK)
+	clear(text)
+	granted(t, x, "bob", both)
+	denied(t, x, "eve", both, 1)
+	for i := range text {
+		text[i] = 'a'
+	}
+	user := []byte("bob")
+	granted(t, x, unsafe.String(&user[0], len(user)), both)
+	copy(user, "eve")
+	granted(t, x, "bob", both)
+	denied(t, x, "eve", one, 1)
+}
+
+// P2: what is done with an answer does not reach the log.
+func TestAnswersAreNotInTheLog(t *testing.T) {
+	x := few(t)
+	added(t, x, "ever select z.id from touch z where (not z.tab = 't' or z.row > 2)", 1, api.OK)
+	added(t, x, "ever select 1 from touch z where z.tab = 't' having count(*) > 4", 2, api.OK)
+	a, e := x.Ask("bob", both)
+	if e != api.OK || len(a.Rows) != 2 {
+		t.Fatalf("P8: %v, %d", a, e)
+	}
+	for _, r := range a.Rows {
+		fill(r.From, api.Touch{Table: "spoiled", Row: 9})
+	}
+	granted(t, x, "bob", one)
+	denied(t, x, "bob", both, 2)
+	granted(t, x, "bob", two)
 }
 
 // fill writes a list full, with its spare room.

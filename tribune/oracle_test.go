@@ -35,6 +35,7 @@ type errRun struct{}
 
 type maker struct {
 	*rand.Rand
+	policy   bool // what is made is a policy, and may ask the log
 	lines    map[string][]line
 	columns  map[string]string
 	now      int64
@@ -119,7 +120,7 @@ func (m *maker) constant(want string) expr {
 		return expr{"'" + word + "'", "t", func(spot) any { return word }}
 	case m.maybe(15):
 		return expr{"now", "i", func(spot) any { return big.NewInt(m.now) }}
-	case m.maybe(5):
+	case m.maybe(5) || m.policy && m.maybe(15):
 		return number(pick[int64](m, 1000000000000, -1000000000000, 999999999999, 3000000))
 	}
 	return number(int64(m.Intn(7) - 2))
@@ -339,9 +340,12 @@ func (m *maker) sources(p place) (place, []string) {
 		for slices.Contains(p.called, called) && m.maybe(97) {
 			called = string(rune('g'+i)) + called[:1] + string(rune('a'+len(p.called)))
 		}
-		table := pick(m, "t", "t", "u", "u", "v", "none")
+		table, none := pick(m, "t", "t", "u", "u", "v", "none"), pick(m, "nope", "log", "touch")
+		if m.policy {
+			table, none = pick(m, "log", "log", "log", "touch", "touch", "t", "u", "v", "none"), "nope"
+		}
 		if m.maybe(1) {
-			texts = append(texts, pick(m, "nope", "log", "touch")+" "+called)
+			texts = append(texts, none+" "+called)
 			m.badName = true
 		} else {
 			texts = append(texts, table+" "+called)
@@ -459,7 +463,11 @@ func split(kept []map[string]line, by []expr) [][]map[string]line {
 		}
 		groups[key] = append(groups[key], lines)
 	}
-	return slices.Collect(maps.Values(groups))
+	var sorted [][]map[string]line // so that chance takes the same course each time
+	for _, key := range slices.Sorted(maps.Keys(groups)) {
+		sorted = append(sorted, groups[key])
+	}
+	return sorted
 }
 
 // rowOf is the row of a group.
@@ -489,17 +497,22 @@ func compareLines(a, b line) int {
 	return a.number - b.number
 }
 
-// answer works a query's meaning out and writes it as told does; false, if it is ErrRun.
-func (m *maker) answer(mean func(spot) []result) (text string, ok bool) {
+// results works a query's meaning out; false, if it is ErrRun.
+func (m *maker) results(mean func(spot) []result) (rows []result, ok bool) {
 	defer func() {
 		if r := recover(); r != nil {
 			if _, isRun := r.(errRun); !isRun {
 				panic(r)
 			}
-			text, ok = "", false
+			rows, ok = nil, false
 		}
 	}()
-	rows := mean(spot{lines: map[string]line{}})
+	m.work = 0
+	return mean(spot{lines: map[string]line{}}), true
+}
+
+// toldOf writes rows as told does.
+func toldOf(rows []result) string {
 	slices.SortFunc(rows, func(a, b result) int {
 		if c := slices.CompareFunc(a.values, b.values, order); c != 0 {
 			return c
@@ -525,26 +538,54 @@ func (m *maker) answer(mean func(spot) []result) (text string, ok bool) {
 		}
 		texts = append(texts, text)
 	}
-	return strings.Join(texts, "; "), true
+	return strings.Join(texts, "; ")
 }
 
-// tables makes an engine whose tables have rows by chance, and keeps what is in them.
-func (m *maker) tables(t *testing.T) *tribune.Engine {
+// fault is what is wrong with the text that was made last.
+func (m *maker) fault() api.Errno {
+	switch {
+	case m.badName:
+		return api.ErrName
+	case m.badShape:
+		return api.ErrShape
+	case m.badType:
+		return api.ErrType
+	}
+	return api.OK
+}
+
+// text makes a query or a policy's query, and its meaning.
+func (m *maker) text() (string, func(spot) []result) {
+	m.badName, m.badShape, m.badType = false, false, false
+	return m.query(place{depth: 1})
+}
+
+// tables makes tables in engines, with rows by chance and in one of them at most so many, and keeps what is in them.
+func (m *maker) tables(t *testing.T, most int, engines ...*tribune.Engine) {
 	t.Helper()
-	x := tribune.New()
-	m.columns = map[string]string{"t": "x:i,y:t", "u": "k:t,n:i,x:i", "v": "z:i", "none": "x:i,y:t"}
+	m.columns = map[string]string{
+		"t": "x:i,y:t", "u": "k:t,n:i,x:i", "v": "z:i", "none": "x:i,y:t",
+		"log": "id:i,user:t,time:i", "touch": "id:i,tab:t,row:i",
+	}
 	m.lines = map[string][]line{}
 	for _, name := range []string{"u", "none", "t", "v"} {
-		created(t, x, name, m.columns[name], api.OK)
-		for range map[string]int{"t": 4, "u": 3, "v": m.Intn(20)}[name] {
-			m.insert(t, x, name)
+		for _, x := range engines {
+			created(t, x, name, m.columns[name], api.OK)
+		}
+		for range map[string]int{"t": 4, "u": 3, "v": m.Intn(most + 1)}[name] {
+			m.insert(t, name, engines...)
 		}
 	}
-	m.now = int64(x.Tick(m.Intn(4)))
-	return x
+	m.tick(m.Intn(4), engines...)
 }
 
-func (m *maker) insert(t *testing.T, x *tribune.Engine, name string) {
+func (m *maker) tick(time int, engines ...*tribune.Engine) {
+	for _, x := range engines {
+		m.now = int64(x.Tick(time))
+	}
+}
+
+func (m *maker) insert(t *testing.T, name string, engines ...*tribune.Engine) {
 	t.Helper()
 	cells := map[string]any{}
 	var texts []string
@@ -557,15 +598,27 @@ func (m *maker) insert(t *testing.T, x *tribune.Engine, name string) {
 		texts = append(texts, e.text)
 		cells[called] = e.mean(spot{})
 	}
-	n, e := x.Insert(name, texts)
-	if e != api.OK {
-		t.Fatalf("P7: Insert(%q, %q): %d", name, texts, e)
+	number := 0
+	for _, x := range engines {
+		n, e := x.Insert(name, texts)
+		if e != api.OK {
+			t.Fatalf("P7: Insert(%q, %q): %d", name, texts, e)
+		}
+		number = n
 	}
+	m.lines[name] = append(m.lines[name], line{name, number, cells})
 	if name == "t" && m.maybe(30) {
-		x.Delete(name, n)
-		return
+		m.remove(t, name, len(m.lines[name])-1, engines...)
 	}
-	m.lines[name] = append(m.lines[name], line{name, n, cells})
+}
+
+// remove deletes a row, by its place among those of its table.
+func (m *maker) remove(t *testing.T, name string, at int, engines ...*tribune.Engine) {
+	t.Helper()
+	for _, x := range engines {
+		deleted(t, x, name, m.lines[name][at].number, api.OK)
+	}
+	m.lines[name] = slices.Delete(m.lines[name], at, at+1)
 }
 
 // P4 to P6, P8: queries of all kinds, against what they mean.
@@ -576,26 +629,20 @@ func TestAskByMeaning(t *testing.T) {
 	var x *tribune.Engine
 	for i := range 20000 {
 		if i%20 == 0 {
-			x = m.tables(t)
+			x = tribune.New()
+			m.tables(t, 19, x)
 		}
-		m.badName, m.badShape, m.badType, m.work = false, false, false, 0
-		text, mean := m.query(place{depth: 1})
+		text, mean := m.text()
 		if len(text) > api.MaxText {
 			continue
 		}
-		want, errno := "", api.OK
-		switch {
-		case m.badName:
-			errno = api.ErrName
-		case m.badShape:
-			errno = api.ErrShape
-		case m.badType:
-			errno = api.ErrType
-		default:
-			var ok bool
-			if want, ok = m.answer(mean); !ok {
+		want, errno := "", m.fault()
+		if errno == api.OK {
+			rows, ok := m.results(mean)
+			if !ok {
 				errno = api.ErrRun
 			}
+			want = toldOf(rows)
 		}
 		a, e := x.Ask("bob", text)
 		if got := told(a); got != want || e != errno {

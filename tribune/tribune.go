@@ -2,9 +2,13 @@
 package tribune
 
 import (
+	"slices"
+	"strings"
+
 	"tribune/api"
 	"tribune/check"
 	"tribune/journal"
+	"tribune/policies"
 	"tribune/query"
 	"tribune/run"
 	"tribune/table"
@@ -15,9 +19,10 @@ import (
 
 // Engine is tables, policies and a log.
 type Engine struct {
-	tables []*table.Table
-	log    *journal.Journal
-	clock  int64
+	tables   []*table.Table
+	log      journal.Journal
+	policies policies.List
+	clock    int64
 }
 
 // Print writes a query or a policy as it is written (P3).
@@ -37,7 +42,8 @@ func read(text string) ([]token.Token, query.Statement, bool) {
 	if len(text) > api.MaxText {
 		return nil, query.Statement{}, false
 	}
-	tokens, ok := token.Scan(text)
+	// A policy is kept, and its names are pieces of the text, which is not to be kept.
+	tokens, ok := token.Scan(strings.Clone(text))
 	if !ok {
 		return nil, query.Statement{}, false
 	}
@@ -46,7 +52,7 @@ func read(text string) ([]token.Token, query.Statement, bool) {
 }
 
 // New makes an engine (P7).
-func New() *Engine { return &Engine{log: journal.New()} }
+func New() *Engine { return &Engine{} }
 
 // Create makes a table (P7).
 func (x *Engine) Create(name string, columns string) api.Errno {
@@ -98,20 +104,33 @@ func (x *Engine) Ask(user string, text string) (api.Answer, api.Errno) {
 	if x.log.Count() >= api.MaxEntries {
 		return api.Answer{}, api.ErrFull
 	}
-	x.log.Write(user, x.clock, touched(rows))
+	tried := x.log.With(user, x.clock, touched(rows))
+	if n := x.policies.Finder(tried, x.tables, x.clock); n != 0 {
+		return api.Answer{Denied: n}, api.ErrDenied
+	}
+	x.log = tried
 	return api.Answer{Rows: rows}, api.OK
 }
 
 // readQuery reads a query that is right, and no policy.
 func (x *Engine) readQuery(text string) (*query.Query, api.Errno) {
-	_, statement, ok := read(text)
-	if !ok || statement.Form != query.Plain {
-		return nil, api.ErrText
-	}
-	if statement.Query.Depth() > api.MaxDepth {
-		return nil, api.ErrDeep
+	statement, errno := readAs(text, query.Plain)
+	if errno != api.OK {
+		return nil, errno
 	}
 	return statement.Query, check.Query(statement.Query, x.tables)
+}
+
+// readAs reads a text that is of one of the forms, and not too deep.
+func readAs(text string, forms ...query.Form) (query.Statement, api.Errno) {
+	_, statement, ok := read(text)
+	if !ok || !slices.Contains(forms, statement.Form) {
+		return query.Statement{}, api.ErrText
+	}
+	if statement.Query.Depth() > api.MaxDepth {
+		return query.Statement{}, api.ErrDeep
+	}
+	return statement, api.OK
 }
 
 // touched is what an answer is from.
@@ -132,16 +151,42 @@ func (x *Engine) Tick(time int) int {
 }
 
 // Add adds a policy (P9).
-func (x *Engine) Add(policy string) (int, api.Errno) { return 0, api.OK }
+func (x *Engine) Add(policy string) (int, api.Errno) {
+	rule, errno := x.readPolicy(policy)
+	if errno != api.OK {
+		return 0, errno
+	}
+	if x.policies.IsFull() {
+		return 0, api.ErrFull
+	}
+	return x.policies.Add(rule, x.log.Count()), api.OK
+}
+
+// readPolicy reads a policy that is right, and no query.
+func (x *Engine) readPolicy(text string) (query.Statement, api.Errno) {
+	rule, errno := readAs(text, query.Within, query.Ever)
+	if errno != api.OK {
+		return query.Statement{}, errno
+	}
+	if rule.Span < 0 {
+		return query.Statement{}, api.ErrText
+	}
+	return rule, check.Query(rule.Query, slices.Concat(x.log.Tables(), x.tables))
+}
 
 // Drop drops a policy (P9).
-func (x *Engine) Drop(n int) api.Errno { return api.OK }
+func (x *Engine) Drop(n int) api.Errno {
+	if !x.policies.Drop(n) {
+		return api.ErrNone
+	}
+	return api.OK
+}
 
 // Entries tells how many entries there are (P10).
 func (x *Engine) Entries() int { return x.log.Count() }
 
 // Compact throws away what no policy can see (P10).
-func (x *Engine) Compact() {}
+func (x *Engine) Compact() { x.log = x.log.Behind(x.policies.Unseen(x.log, x.clock)) }
 
 // Kept tells how many entries are kept (P10).
-func (x *Engine) Kept() int { return 0 }
+func (x *Engine) Kept() int { return x.log.Kept() }
